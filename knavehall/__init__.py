@@ -1,0 +1,1 @@
+"""Knavehall: sayings about who says true."""
